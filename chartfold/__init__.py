@@ -1,0 +1,1 @@
+"""Chartfold: charts of rooms within rooms, folded into flat machines."""
