@@ -15,7 +15,7 @@ class TooMany(ChartError):
 
 class Clash(ChartError):
     def __init__(self, events, first, second):
-        ChartError.__init__(self, f"arrows {first} and {second} clash behind the events {events}")
+        ChartError.__init__(self, f"arrows {first} and {second} clash")
         self.events = events
         self.first = first
         self.second = second

@@ -46,10 +46,10 @@ def check_holder(chart, room):
     holder = chart.rooms[room][HOLDER]
     if room == 0:
         if holder != NONE:
-            raise BadChart(f"the first room lies in no other, not in {holder}")
+            raise BadChart(f"the first room's holder is {NONE}")
         return
     if not 0 <= holder < room:
-        raise BadChart(f"room {room} lies in a room ahead of it, not in {holder}")
+        raise BadChart(f"room {room} does not lie in a room ahead of it")
 
 
 def check_kind(chart, room):
@@ -66,24 +66,26 @@ def check_kind(chart, room):
 def check_arrows(chart):
     if len(chart.arrows) > MOST_ARROWS:
         raise BadChart(f"a chart has 0 to {MOST_ARROWS} arrows")
-    for arrow in chart.arrows:
-        check_arrow(chart, arrow)
+    for number in range(len(chart.arrows)):
+        check_arrow(chart, number)
 
 
-def check_arrow(chart, arrow):
+def check_arrow(chart, number):
+    arrow = chart.arrows[number]
     last_room = len(chart.rooms) - 1
-    check_number("source", arrow[SOURCE], 0, last_room)
-    check_number("event", arrow[EVENT], 0, LAST_EVENT)
-    check_number("guard", arrow[GUARD], NONE, last_room)
-    check_number("target", arrow[TARGET], 0, last_room)
-    check_number("deed", arrow[DEED], 0, LAST_DEED)
+    check_part(number, "source", arrow[SOURCE], 0, last_room)
+    check_part(number, "event", arrow[EVENT], 0, LAST_EVENT)
+    check_part(number, "guard", arrow[GUARD], NONE, last_room)
+    check_part(number, "target", arrow[TARGET], 0, last_room)
+    check_part(number, "deed", arrow[DEED], 0, LAST_DEED)
     if scope(chart, arrow[SOURCE], arrow[TARGET]) is None:
-        raise BadChart(f"the arrow {arrow} has no scope")
+        raise BadChart(f"arrow {number} has no scope")
 
 
-def check_number(name, number, least, most):
-    if not least <= number <= most:
-        raise BadChart(f"an arrow's {name} is {least} to {most}, not {number}")
+def check_part(number, name, part, least, most):
+    # The part itself is not shown: Python writes no number of thousands of digits, and fails in another way.
+    if not least <= part <= most:
+        raise BadChart(f"the {name} of arrow {number} is not one of {least} to {most}")
 
 
 def children(chart, room):

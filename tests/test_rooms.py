@@ -48,13 +48,13 @@ class RoomBounds(ChartCase):
         self.assert_refused(deep(17), [])
 
     def test_first_holder(self):
-        for holder in (-2, 0, 1, 2, 16):
+        for holder in (-2, 0, 1, 2, 16, 10 ** 20):
             with self.subTest(holder=holder):
                 self.assert_refused([(holder, "plain")], [])
                 self.assert_refused([(holder, "one"), (0, "plain"), (0, "plain")], [])
 
     def test_holder_that_is_not_ahead(self):
-        for holder in (-2, -1, 2, 3, 4, 16):
+        for holder in (-2, -1, 2, 3, 4, 16, 10 ** 20):
             with self.subTest(holder=holder):
                 self.assert_refused([(-1, "one"), (0, "one"), (holder, "plain"), (1, "plain")], [])
 
@@ -126,6 +126,11 @@ class ArrowBounds(ChartCase):
         ):
             with self.subTest(arrow=arrow):
                 self.assert_arrow_refused(arrow)
+
+    def test_number_far_beyond_its_bounds(self):
+        for number in (10 ** 5000, -10 ** 5000):
+            for place in range(5):
+                self.assert_arrow_refused(ARROW[:place] + (number,) + ARROW[place + 1:])
 
     def test_alike_arrows_and_the_same_source_and_target(self):
         self.assert_made(HOUSE, [ARROW, ARROW, (9, 1, -1, 9, 5)])
