@@ -118,13 +118,19 @@ def remembered(chart, kept, memory):
 
 def run(chart, events):
     state = started(chart)
+    ahead = []
     deeds = []
-    for place, event in enumerate(events):
-        try:
-            step = stepped(chart, state, event)
-        except Clash as refusal:
-            # A step knows its own event alone; what was refused here is the whole run up to it.
-            raise Clash(tuple(events[:place + 1]), refusal.first, refusal.second) from None
+    for event in events:
+        step = step_behind(chart, ahead, state, event)
+        ahead.append(event)
         state = step[0]
         deeds.append(step[1])
     return (state, deeds)
+
+
+def step_behind(chart, ahead, state, event):
+    try:
+        return stepped(chart, state, event)
+    except Clash as refusal:
+        # A step knows its own event alone; here the events that led to the state are told too.
+        raise Clash(tuple(ahead) + (event,), refusal.first, refusal.second) from None

@@ -3,45 +3,13 @@
 import random
 import unittest
 
+from charts import drawn_chart, drawn_rooms, outer_rooms, told_scope
 from chartfold.errors import Clash
 from chartfold.keeping import run, started, stepped, takeable
 from chartfold.rooms import Chart, scope
 
 CHARTS = 400
 STEPS = 25
-
-
-def outer_rooms(rooms, room):
-    """The rooms in which a room lies, from the innermost."""
-    outer = []
-    while rooms[room][0] != -1:
-        room = rooms[room][0]
-        outer.append(room)
-    return outer
-
-
-def drawn_rooms(source):
-    count = source.randint(3, 16)
-    holders = [-1] + [source.randint(max(0, room - 5), room - 1) for room in range(1, count)]
-    return [
-        (holder, source.choice(("one", "all", "keep")) if room in holders else "plain")
-        for room, holder in enumerate(holders)
-    ]
-
-
-def told_scope(rooms, first, second):
-    shared = set(outer_rooms(rooms, first)) & set(outer_rooms(rooms, second))
-    return max((room for room in shared if rooms[room][1] in ("one", "keep")), default=None)
-
-
-def drawn_arrows(source, rooms):
-    arrows = []
-    for attempt in range(source.randint(0, 20)):
-        first, second = source.randrange(len(rooms)), source.randrange(len(rooms))
-        if told_scope(rooms, first, second) is not None:
-            guard = source.choice((-1, -1, -1, source.randrange(len(rooms))))
-            arrows.append((first, source.randint(0, 3), guard, second, source.randint(0, 99)))
-    return arrows
 
 
 def told_takeable(rooms, arrows, kept, event):
@@ -143,9 +111,8 @@ class Walks(unittest.TestCase):
     def test_walks(self):
         for seed in range(CHARTS):
             source = random.Random(seed)
-            rooms = drawn_rooms(source)
             with self.subTest(seed=seed):
-                self.walk(Chart(rooms, drawn_arrows(source, rooms)), source)
+                self.walk(drawn_chart(source), source)
 
     def test_scopes(self):
         for seed in range(CHARTS):
