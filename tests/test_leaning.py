@@ -114,7 +114,7 @@ class Parted(unittest.TestCase):
 
     def test_shorter_row_ahead_of_a_lesser_one(self):
         # 0, 0 parts 0 and 1, and so does 3.
-        rows = [quiet(2, 0, 0, 0), [(3, ()), (0, ()), (0, ()), (0, (6,))], quiet(2, 2, 2, 2), [(3, (5,))] + quiet(3, 3, 3)]
+        rows = [quiet(2, 0, 0, 0), quiet(3, 0, 0) + [(0, (6,))], quiet(2, 2, 2, 2), [(3, (5,))] + quiet(3, 3, 3)]
         self.assertEqual(parted(machine(rows), 0, 1), (3,))
 
     def test_first_of_the_shortest_rows(self):

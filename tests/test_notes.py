@@ -106,9 +106,10 @@ class Refusals(unittest.TestCase):
         self.assert_refused("", " ", "\n", "-", "room", "room ", "room -", "room - ", "arrow", "plain")
 
     def test_line_ends(self):
-        self.assert_refused("room - plain\n", "\nroom - plain", "room - plain\n\n", "room - plain\r", "room - plain\r\n")
+        for text in ("room - plain", ROOMS, ROOMS + "\n" + ARROW):
+            self.assert_refused(text + "\n", "\n" + text, text + "\n\n", text + "\r", text + "\r\n")
         for text in (ROOMS, ROOMS + "\n" + ARROW):
-            self.assert_refused(text + "\n", "\n" + text, text.replace("\n", "\n\n", 1), text.replace("\n", "\r\n"))
+            self.assert_refused(text.replace("\n", "\n\n", 1), text.replace("\n", "\r\n"))
             for end in ("\r", "\v", "\f", "\x1c", "\x1d", "\x1e", "\x85", "\u2028", "\u2029", " ", ""):
                 self.assert_refused(text.replace("\n", end), text.replace("\n", end, 1), text + end + "\n")
 
